@@ -1,0 +1,1 @@
+"""Dealtables: tables with rules between them, and deals that keep them."""
