@@ -79,8 +79,8 @@ class Files(unittest.TestCase):
         for path in PACKAGE.iterdir():
             if path.name != "__pycache__":
                 self.assertRegex(path.name, r"^([a-z0-9][a-z0-9_]*|__init__|__main__)\.py$")
-        self.assertTrue((PACKAGE / "__init__.py").exists())
-        self.assertGreaterEqual(len(package_files()), 4)
+        for name in ("__init__", "errors", "schemas", "writing", "reading", "holding", "breaking", "doing"):
+            self.assertTrue((PACKAGE / (name + ".py")).exists(), name)
 
     def test_l10_l14_sizes_and_signs(self):
         for path in package_files():

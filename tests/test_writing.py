@@ -1,6 +1,7 @@
 import copy
 import unittest
 
+from dealtables.reading import read
 from dealtables.schemas import is_schema
 from dealtables.writing import written, written_worth
 from tests.examples import SCHEMA, deep_test
@@ -8,11 +9,17 @@ from tests.examples import SCHEMA, deep_test
 COLUMNS = (("a", "whole", False), ("b", "whole", True), ("s", "text", False), ("t", "text", True))
 
 
+def text_of(schema):
+    """The schema's text; each schema of these tests is read back out of it, too."""
+    text = written(schema)
+    assert is_schema(schema), schema
+    assert read(text) == schema, schema
+    return text
+
+
 def lines(rules=(), columns=COLUMNS, key=("a",), more=()):
     """The rows of the text of a schema whose first table is this one."""
-    schema = (("tab", columns, key, rules),) + more
-    assert is_schema(schema), schema
-    text = written(schema)
+    text = text_of((("tab", columns, key, rules),) + more)
     assert text.endswith("\n"), text
     return text[:-1].split("\n")
 
@@ -29,7 +36,7 @@ class WholeTexts(unittest.TestCase):
     """1.2: the whole of a text."""
 
     def test_the_smallest(self):
-        self.assertEqual(written((("t", (("c", "text", False),), ("c",), ()),)), "table t key c\n column c text\n")
+        self.assertEqual(text_of((("t", (("c", "text", False),), ("c",), ()),)), "table t key c\n column c text\n")
 
     def test_an_ordinary_one(self):
         text = (
@@ -53,14 +60,13 @@ class WholeTexts(unittest.TestCase):
             " column where whole\n"
             " refers what where to good stop\n"
         )
-        self.assertTrue(is_schema(SCHEMA))
-        self.assertEqual(written(SCHEMA), text)
+        self.assertEqual(text_of(SCHEMA), text)
 
     def test_four_of_all(self):
         tables = tuple([(name, COLUMNS, ("s", "a"), (("unlike", ("t", "b")),) * 3) for name in ("p", "q", "r", "s")])
         one = (" key s a\n column a whole\n column b whole ?\n column s text\n column t text ?\n"
                + " unlike t b\n" * 3)
-        self.assertEqual(written(tables), "".join(["table " + name + one for name in ("p", "q", "r", "s")]))
+        self.assertEqual(text_of(tables), "".join(["table " + name + one for name in ("p", "q", "r", "s")]))
 
     def test_it_is_a_text_and_stays_the_same(self):
         before = copy.deepcopy(SCHEMA)
@@ -153,8 +159,7 @@ class Tests(unittest.TestCase):
     def test_columns_that_are_called_like_words(self):
         table = ("table", (("key", "whole", False), ("not", "whole", True)), ("key",),
                  (("check", ("below", "not", "key")), ("unlike", ("not",)), ("refers", ("not",), "table", "gap")))
-        self.assertTrue(is_schema((table,)))
-        self.assertEqual(written((table,)), "table table key key\n column key whole\n column not whole ?\n"
+        self.assertEqual(text_of((table,)), "table table key key\n column key whole\n column not whole ?\n"
                                             " check below not key\n unlike not\n refers not to table gap\n")
 
     def test_schemas_somewhat_beyond_the_bounds(self):

@@ -1,0 +1,132 @@
+"""The document's points once more, by looking at all rows at every turn.
+
+The package's answers are held against what is told here.
+"""
+
+
+def worth_in(table, row, name):
+    return [worth for column, worth in zip(table[1], row) if column[0] == name][0]
+
+
+def worths_in(table, row, names):
+    return tuple([worth_in(table, row, name) for name in names])
+
+
+def plain_key(table, row):
+    return worths_in(table, row, table[2])
+
+
+def every_row(schema, store):
+    return [(table, row) for table, rows in zip(schema, store) for row in rows]
+
+
+def refers_by(table, row, rule, aim, aimed):
+    """Whether row of table refers by this rule to the row aimed of the table aim."""
+    worths = worths_in(table, row, rule[1])
+    return rule[2] == aim[0] and None not in worths and worths == plain_key(aim, aimed)
+
+
+def plain_holds(table, test, row):
+    word = test[0]
+    if word == "empty":
+        return worth_in(table, row, test[1]) is None
+    if word in ("is", "below"):
+        one = worth_in(table, row, test[1])
+        other = test[2] if word == "is" else worth_in(table, row, test[2])
+        if one is None or other is None:
+            return None
+        return one == other if word == "is" else one < other
+    # False, open and True as 0, 1 and 2: "not" turns them over, "and" takes the least, "or" the most.
+    ranks = [{False: 0, None: 1, True: 2}[plain_holds(table, part, row)] for part in test[1:]]
+    rank = {"not": 2 - ranks[0], "and": min(ranks), "or": max(ranks)}[word]
+    return (False, None, True)[rank]
+
+
+def is_broken(schema, store, table, row, rule):
+    if rule[0] == "check":
+        return plain_holds(table, rule[1], row) is False
+    if rule[0] == "unlike":
+        worths = worths_in(table, row, rule[1])
+        others = [other for home, other in every_row(schema, store)
+                  if home[0] == table[0] and plain_key(home, other) != plain_key(table, row)]
+        return None not in worths and any([worths_in(table, other, rule[1]) == worths for other in others])
+    if None in worths_in(table, row, rule[1]):
+        return False
+    return not any([refers_by(table, row, rule, aim, aimed) for aim, aimed in every_row(schema, store)])
+
+
+def plain_breaks(schema, store):
+    found = [(table[0], number, plain_key(table, row)) for table, row in every_row(schema, store)
+             for number, rule in enumerate(table[3]) if is_broken(schema, store, table, row, rule)]
+    return tuple(sorted(found))
+
+
+def refers_into(table, row, way, rows):
+    """The rules of this way by which row refers to one of these rows, each a pair of its table and itself."""
+    return [rule for rule in table[3] if rule[0] == "refers" and rule[3] == way
+            and any([refers_by(table, row, rule, aim, aimed) for aim, aimed in rows])]
+
+
+def plain_gone(schema, store, name, key):
+    """All pairs of a table and a row that go."""
+    gone = [(table, row) for table, row in every_row(schema, store)
+            if table[0] == name and plain_key(table, row) == key]
+    grown = True
+    while grown:
+        more = [pair for pair in every_row(schema, store)
+                if pair not in gone and refers_into(pair[0], pair[1], "along", gone)]
+        gone = gone + more
+        grown = bool(more)
+    return gone
+
+
+def plain_going(schema, store, name, key):
+    """The pair that going tells, or the name of its refusal."""
+    gone = plain_gone(schema, store, name, key)
+    if not gone:
+        return "NoRow"
+    left = [pair for pair in every_row(schema, store) if pair not in gone]
+    if any([refers_into(table, row, "stop", gone) for table, row in left]):
+        return "Held"
+    gaps = [(table, row) for table, row in left if refers_into(table, row, "gap", gone)]
+    return tuple([tuple(sorted([(table[0], plain_key(table, row)) for table, row in part])) for part in (gone, gaps)])
+
+
+def plain_row_with(table, row, pairs):
+    return tuple([dict(pairs).get(column[0], worth) for column, worth in zip(table[1], row)])
+
+
+def rows_behind(schema, store, deed):
+    """All pairs of a table and a row behind the deed, not yet held against the rules; or the name of a refusal."""
+    rows = every_row(schema, store)
+    home = [table for table in schema if table[0] == deed[1]][0]
+    key = plain_key(home, deed[2]) if deed[0] == "add" else deed[2]
+    there = [pair for pair in rows if pair[0] == home and plain_key(home, pair[1]) == key]
+    if deed[0] == "add":
+        return "Twice" if there else rows + [(home, deed[2])]
+    if deed[0] == "set":
+        behind = [(table, plain_row_with(table, row, deed[3]) if (table, row) in there else row)
+                  for table, row in rows]
+        return behind if there else "NoRow"
+    told = plain_going(schema, store, deed[1], key)
+    if isinstance(told, str):
+        return told
+    gone = plain_gone(schema, store, deed[1], key)
+    left = [pair for pair in rows if pair not in gone]
+    return [(table, plain_row_with(table, row, [(name, None) for rule in refers_into(table, row, "gap", gone)
+                                                for name in rule[1]])) for table, row in left]
+
+
+def plain_done(schema, store, deed):
+    """The store that done tells, or the name of its refusal."""
+    rows = rows_behind(schema, store, deed)
+    if isinstance(rows, str):
+        return rows
+    behind = tuple([tuple(sorted([row for home, row in rows if home == table],
+                                 key=lambda row: plain_key(table, row))) for table in schema])
+    rules = {table[0]: table[3] for table in schema}
+    broken = [rules[name][number] for name, number, key in plain_breaks(schema, behind)]
+    for word, refusal in (("unlike", "Twice"), ("check", "BadCheck"), ("refers", "NoRef")):
+        if [rule for rule in broken if rule[0] == word and rule[-1] != "late"]:
+            return refusal
+    return behind
