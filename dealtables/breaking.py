@@ -16,6 +16,11 @@ def rows_of(schema, store, name):
     return ()
 
 
+def rows_by_key(schema, store, name):
+    table = table_of(schema, name)
+    return dict([(key_of(table, row), row) for row in rows_of(schema, store, name)])
+
+
 def row_of(schema, store, name, key):
     table = table_of(schema, name)
     for row in rows_of(schema, store, name):
@@ -99,7 +104,6 @@ def keys_alike(table, rule, rows):
 
 
 def keys_referring_to_none(schema, store, table, rule):
-    target = table_of(schema, rule[2])
-    there = dict([(key_of(target, row), True) for row in rows_of(schema, store, rule[2])])
+    there = rows_by_key(schema, store, rule[2])
     references = references_by(table, rule, rows_of(schema, store, table[0]))
     return [source[1] for source, by, aim in references if aim[1] not in there]

@@ -3,6 +3,8 @@
 import random
 
 from dealtables.breaking import breaks, key_of
+from dealtables.dealing import deal
+from dealtables.errors import DealError
 
 NAMES = ("a", "b", "to", "is", "key", "table", "abcdef", "z")
 WHOLES = (-999, -10, -1, 0, 1, 2, 999)
@@ -121,13 +123,48 @@ def made_deed(rolled, schema, store):
     return (word, table[0], key, tuple(pairs[:3]))
 
 
-def mended(schema, store):
-    """The store without its rows that break rules, but refers of late."""
+def mended(schema, store, but="late"):
+    """The store without its rows that break rules, but refers of late, or of another way."""
     broken = [(name, key) for name, number, key in breaks(schema, store)
-              if [table for table in schema if table[0] == name][0][3][number][-1] != "late"]
+              if [table for table in schema if table[0] == name][0][3][number][-1] != but]
     left = tuple([tuple([row for row in rows if (table[0], key_of(table, row)) not in broken])
                   for table, rows in zip(schema, store)])
-    return mended(schema, left) if broken else left
+    return mended(schema, left, but) if broken else left
+
+
+def made_good_store(rolled, schema):
+    """A store that breaks no rules."""
+    return mended(schema, made_store(rolled, schema), None)
+
+
+def deal_or_none(schema, store, deeds):
+    try:
+        return deal(schema, store, deeds)
+    except DealError:
+        return None
+
+
+def made_step(rolled, schema, now, marks):
+    """A deed, a mark or a return, mostly to a mark that there is."""
+    turn = rolled.random()
+    if turn < 0.15:
+        return ("mark", rolled.choice("mno"))
+    if turn < 0.3 and (marks or turn < 0.17):
+        return ("back", rolled.choice(marks or "mno"))
+    return made_deed(rolled, schema, now)
+
+
+def made_deal(rolled, schema, store, most=7):
+    """A deal whose steps can mostly be done on the store, one behind the other."""
+    steps = ()
+    now = store
+    for k in range(rolled.randint(0, most)):
+        marks = [step[1] for step in steps if step[0] == "mark"]
+        tries = [steps + (made_step(rolled, schema, now, marks),) for turn in range(4)]
+        can_be_done = [each for each in tries if deal_or_none(schema, store, each) is not None]
+        steps = (can_be_done if can_be_done and rolled.random() < 0.95 else tries)[0]
+        now = deal_or_none(schema, store, steps) or now
+    return steps
 
 
 def made_cases(seed, many, deeds):

@@ -130,3 +130,33 @@ def plain_done(schema, store, deed):
         if [rule for rule in broken if rule[0] == word and rule[-1] != "late"]:
             return refusal
     return behind
+
+
+def plain_replayed(schema, store, deeds):
+    """The store behind these deeds, marks among them left out, or the name of the first refusal."""
+    now = store
+    for deed in deeds:
+        if deed[0] != "mark" and not isinstance(now, str):
+            now = plain_done(schema, now, deed)
+    return now
+
+
+def plain_deal(schema, store, deeds):
+    """The store that deal tells, or a pair of the name of its refusal and its place.
+
+    A return strikes out all behind its mark, and what is left is done once more from the start.
+    """
+    left = ()
+    for at, step in enumerate(deeds):
+        if step[0] == "back":
+            places = [place for place, other in enumerate(left) if other == ("mark", step[1])]
+            if not places:
+                return ("NoMark", at)
+            left = left[:places[-1] + 1]
+        else:
+            left = left + (step,)
+        told = plain_replayed(schema, store, left)
+        if isinstance(told, str):
+            return (told, at)
+    behind = plain_replayed(schema, store, left)
+    return ("NoRef", len(deeds)) if plain_breaks(schema, behind) else behind

@@ -7,21 +7,7 @@ from dealtables.errors import BadCheck, DealError, Held, NoRef, NoRow, Twice
 from dealtables.schemas import is_schema, is_store
 from tests.making import made_cases
 from tests.plainly import plain_done
-
-COLUMNS = (("k", "whole", False), ("x", "whole", True), ("y", "whole", True), ("s", "text", True))
-PAIRS = ("p", (("m", "whole", False), ("v", "whole", True), ("n", "text", False)), ("n", "m"), ())
-
-
-def table(name, *rules):
-    return (name, COLUMNS, ("k",), rules)
-
-
-def refers(column, name, way):
-    return ("refers", (column,), name, way)
-
-
-def row(k, x=None, y=None, s=None):
-    return (k, x, y, s)
+from tests.small import PAIRS, refers, row, table
 
 
 def late_alone(schema, store):

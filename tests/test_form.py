@@ -40,6 +40,8 @@ NODES = (
     ast.operator, ast.unaryop, ast.cmpop,
 )
 BARRED_NODES = (ast.Div, ast.MatMult)
+WALKED_AT_ONCE = ("zip", "enumerate", "reversed", "range", "items", "keys", "values")
+WALKERS = ("list", "tuple", "dict", "sorted", "sum", "any", "all", "enumerate", "zip")
 
 
 def package_files():
@@ -79,8 +81,7 @@ class Files(unittest.TestCase):
         for path in PACKAGE.iterdir():
             if path.name != "__pycache__":
                 self.assertRegex(path.name, r"^([a-z0-9][a-z0-9_]*|__init__|__main__)\.py$")
-        for name in ("__init__", "errors", "schemas", "writing", "reading", "holding", "breaking", "doing"):
-            self.assertTrue((PACKAGE / (name + ".py")).exists(), name)
+        self.assertTrue((PACKAGE / "__init__.py").exists())
 
     def test_l10_l14_sizes_and_signs(self):
         for path in package_files():
@@ -166,6 +167,7 @@ class Language(unittest.TestCase):
     def test_l6_statements(self):
         for place, node in nodes_of(ast.Assign):
             self.assertEqual(len(node.targets), 1, place)
+            self.assertIsInstance(node.targets[0], (ast.Name, ast.Attribute, ast.Subscript), place)
         for place, node in nodes_of(ast.For, ast.While):
             self.assertEqual(node.orelse, [], place)
         for place, node in nodes_of(ast.Try):
@@ -225,6 +227,50 @@ class Language(unittest.TestCase):
         for place, node in nodes_of(ast.Call):
             if isinstance(node.func, ast.Name) and node.func.id in ("set", "frozenset"):
                 self.assertIn(ast.dump(node), allowed, place)
+
+    def test_l23_walked_at_once(self):
+        walked = []
+        for place, node in nodes_of(ast.For, ast.comprehension):
+            walked.append(node.iter)
+        for place, node in nodes_of(ast.Call):
+            if isinstance(node.func, ast.Name) and (node.func.id in WALKERS or (
+                    node.func.id in ("min", "max") and len(node.args) == 1)):
+                walked.extend(node.args if node.func.id == "zip" else node.args[:1])
+        places = [ast.dump(node, include_attributes=True) for node in walked]
+        for place, node in nodes_of(ast.Call):
+            if getattr(node.func, "id", getattr(node.func, "attr", "")) in WALKED_AT_ONCE:
+                self.assertIn(ast.dump(node, include_attributes=True), places, place)
+
+
+class Errors(unittest.TestCase):
+    def test_l19_errors_are_made_on_the_spot(self):
+        for place, node in nodes_of(ast.Raise):
+            self.assertIsInstance(node.exc, ast.Call, place)
+            self.assertIsInstance(node.exc.func, ast.Name, place)
+        for place, handler in nodes_of(ast.ExceptHandler):
+            for node in ast.walk(handler):
+                if isinstance(node, ast.Raise) and node.cause is not None:
+                    self.assertEqual(getattr(node.cause, "id", None), handler.name, place)
+
+    def test_l19_errors_that_are_taken(self):
+        own = [node.name for place, node in nodes_of(ast.ClassDef) if place.startswith("errors.py")]
+        for place, node in nodes_of(ast.ExceptHandler):
+            self.assertIsInstance(node.type, ast.Name, place)
+            self.assertIn(node.type.id, own + ["KeyError", "ZeroDivisionError", "StopIteration"], place)
+
+
+class Objects(unittest.TestCase):
+    def test_l18_l26_methods_and_values(self):
+        methods = [part.name for place, node in nodes_of(ast.ClassDef) for part in node.body
+                   if isinstance(part, ast.FunctionDef)]
+        stored = [node for place, node in nodes_of(ast.Attribute) if isinstance(node.ctx, ast.Store)]
+        for node in stored:
+            self.assertIsInstance(node.value, ast.Name)
+            self.assertNotIn(node.attr, methods)
+            self.assertFalse(any(hasattr(kind, node.attr) for kind in (str, int, list, dict, set, bytes)), node.attr)
+        for name in methods:
+            self.assertTrue(name in TWO_UNDERSCORES or not any(
+                hasattr(kind, name) for kind in (str, int, list, dict, set, bytes)), name)
 
 
 if __name__ == "__main__":
