@@ -171,6 +171,10 @@ def is_store(schema, thing):
     return all([are_rows(table, rows) for table, rows in zip(schema, thing)])
 
 
+def store_without_rows(schema):
+    return tuple([() for table in schema])
+
+
 def are_rows(table, thing):
     if not isinstance(thing, tuple) or not all([is_row(table, row) for row in thing]):
         return False

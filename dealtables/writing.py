@@ -2,7 +2,11 @@
 
 
 def written(schema):
-    return "".join([f"{line}\n" for line in lines_of_schema(schema)])
+    return with_row_ends(lines_of_schema(schema))
+
+
+def with_row_ends(lines):
+    return "".join([f"{line}\n" for line in lines])
 
 
 def lines_of_schema(schema):

@@ -3,6 +3,8 @@
 The package's answers are held against what is told here.
 """
 
+import re
+
 
 def worth_in(table, row, name):
     return [worth for column, worth in zip(table[1], row) if column[0] == name][0]
@@ -160,3 +162,92 @@ def plain_deal(schema, store, deeds):
             return (told, at)
     behind = plain_replayed(schema, store, left)
     return ("NoRef", len(deeds)) if plain_breaks(schema, behind) else behind
+
+
+def plain_sum(text):
+    """Horner's way once more, but as one long sum."""
+    whole = sum([ord(sign) * 31 ** (len(text) - 1 - place) for place, sign in enumerate(text)])
+    return ("0000" + str(whole % 9973))[-4:]
+
+
+def plain_part(*lines):
+    """The text of these rows with its end behind it."""
+    text = "".join([line + "\n" for line in lines])
+    return text + "end " + plain_sum(text) + "\n"
+
+
+def worth_pattern(column, gaps):
+    kinds = {"whole": "0|-?[1-9][0-9]{0,2}", "text": "'[a-z0-9]{0,6}"}
+    return " (?:" + kinds[column[1]] + (r"|\?" if gaps and column[2] else "") + ")"
+
+
+def key_pattern(home):
+    columns = [column for name in home[2] for column in home[1] if column[0] == name]
+    return "".join([worth_pattern(column, False) for column in columns])
+
+
+def plain_worth(word):
+    if word == "?":
+        return None
+    return word[1:] if word[0] == "'" else int(word)
+
+
+def plain_deed(schema, line):
+    """The deed, mark or return of which this row is the writing, or None."""
+    words = line.split(" ")
+    if re.fullmatch("(?:mark|back) [a-z]{1,6}", line):
+        return tuple(words)
+    for home in schema:
+        start = " " + home[0]
+        free = [" " + column[0] + worth_pattern(column, True) for column in home[1] if column[0] not in home[2]]
+        if re.fullmatch("add" + start + "".join([worth_pattern(column, True) for column in home[1]]), line):
+            return ("add", home[0], tuple([plain_worth(word) for word in words[2:]]))
+        if re.fullmatch("drop" + start + key_pattern(home), line):
+            return ("drop", home[0], tuple([plain_worth(word) for word in words[2:]]))
+        if free and re.fullmatch("set" + start + key_pattern(home) + " :(?:" + "|".join(free) + "){1,3}", line):
+            colon = 2 + len(home[2])
+            names = words[colon + 1::2]
+            pairs = [(name, plain_worth(word)) for name, word in zip(names, words[colon + 2::2])]
+            if len(set(names)) == len(names):
+                return ("set", home[0], tuple([plain_worth(word) for word in words[2:colon]]), tuple(pairs))
+    return None
+
+
+def plain_base_row(schema, deeds, deed):
+    """Whether this deed can stand behind these in a base."""
+    if deed is None or deed[0] != "add":
+        return False
+    places = [(number, plain_key(home, each[2])) for each in deeds[-1:] + [deed]
+              for number, home in enumerate(schema) if home[0] == each[1]]
+    return len(places) == 1 or places[0] < places[1]
+
+
+def plain_store_behind(schema, store, part, deeds):
+    """The store behind this base or deal, or None if its end can not stand."""
+    if part == "deal":
+        told = plain_deal(schema, store, deeds)
+        return None if isinstance(told[0], str) else told
+    base = tuple([tuple([deed[2] for deed in deeds if deed[1] == home[0]]) for home in schema])
+    return None if plain_breaks(schema, base) else base
+
+
+def plain_back(schema, text):
+    """The pair that back_from tells, or the number of the first row that can not stand."""
+    store, whole, seen, part, ahead, deeds = tuple([() for home in schema]), 0, 0, None, "", []
+    for at, line in enumerate(re.findall("([^\n]*)\n", text)):
+        seen += len(line) + 1
+        if part is None:
+            if line != "deal" and (line, at) != ("base", 0):
+                return at
+            part, ahead, deeds = line, line + "\n", []
+        elif line == "end " + plain_sum(ahead):
+            behind = plain_store_behind(schema, store, part, deeds)
+            if behind is None:
+                return at
+            store, whole, part = behind, seen, None
+        else:
+            deed = plain_deed(schema, line)
+            if deed is None or part == "base" and not plain_base_row(schema, deeds, deed):
+                return at
+            ahead, deeds = ahead + line + "\n", deeds + [deed]
+    return (store, whole)

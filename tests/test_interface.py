@@ -4,6 +4,8 @@ import importlib
 import inspect
 import unittest
 
+from dealtables.keepers import Keeper
+
 FUNCTIONS = {
     "schemas": {"is_test": 2, "is_schema": 1, "is_row": 2, "is_store": 2},
     "writing": {"written": 1},
@@ -14,7 +16,12 @@ FUNCTIONS = {
     "dealing": {"deal": 3, "after_all": 3},
     "asking": {"picked": 4, "matched": 4, "referring": 4, "grouped": 4},
     "reaching": {"may_go": 2, "may_gap": 2, "may_hold": 2, "with_rule": 3, "without_rule": 3, "finds": 4},
+    "logs": {"sum_of": 1, "written_base": 2, "written_deal": 1},
+    "coming": {"back_from": 2, "thinned": 2},
+    "hands": {"both": 4, "touched": 3, "apart": 4},
 }
+# Of methods the keeper itself is counted among the arguments.
+METHODS = {"deal": 2, "store": 1, "log": 1, "thin": 1, "stop": 2, "undo": 1}
 
 
 class TheInterface(unittest.TestCase):
@@ -24,6 +31,12 @@ class TheInterface(unittest.TestCase):
                 function = getattr(importlib.import_module("dealtables." + module), name)
                 self.assertEqual(function.__module__, "dealtables." + module)
                 self.assertEqual(len(inspect.signature(function).parameters), many, name)
+
+    def test_keepers(self):
+        self.assertEqual(Keeper.__module__, "dealtables.keepers")
+        self.assertEqual(len(inspect.signature(Keeper).parameters), 1)
+        for name, many in METHODS.items():
+            self.assertEqual(len(inspect.signature(getattr(Keeper, name)).parameters), many, name)
 
 
 if __name__ == "__main__":
